@@ -1,0 +1,1 @@
+"""Shovefloors: shapes that fill the whole plane by shoves."""

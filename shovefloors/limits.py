@@ -1,0 +1,8 @@
+"""How much there may be of something."""
+
+MOST_CELLS = 24
+MOST_PLACE = 1000
+MOST_LATTICE = 100
+MOST_ROLLED = 36
+MOST_SHAPES = 20
+MOST_SHOVES = 24
