@@ -1,13 +1,18 @@
 """What arguments must be: questions that several modules ask of what they are passed."""
 
-from shovefloors.errors import InvalidCell, InvalidCells, InvalidShoves
-from shovefloors.limits import MOST_CELLS, MOST_PLACE, MOST_SHOVES
+from shovefloors.errors import InvalidCell, InvalidCells, InvalidLattice, InvalidNumber, InvalidShoves
+from shovefloors.limits import MOST_CELLS, MOST_LATTICE, MOST_PLACE, MOST_SHOVES
 
 
 def is_int(value):
     """Whether a value is an integer."""
     # True and False are integers for Python, but not for the document.
     return isinstance(value, int) and not isinstance(value, bool)
+
+
+def is_ints(value, many):
+    """Whether a value is a tuple of so many integers, however great."""
+    return isinstance(value, tuple) and len(value) == many and all([is_int(part) for part in value])
 
 
 def is_pair(value):
@@ -18,6 +23,11 @@ def is_pair(value):
 def is_place(value):
     """Whether a value is a pair of integers from -MOST_PLACE to MOST_PLACE."""
     return is_pair(value) and abs(value[0]) <= MOST_PLACE and abs(value[1]) <= MOST_PLACE
+
+
+def is_lattice(value):
+    """Whether a value is a lattice, however great."""
+    return is_ints(value, 3) and 0 <= value[1] < value[0] and value[2] >= 1
 
 
 def first_wrong(values, most):
@@ -58,3 +68,15 @@ def check_cell(cell):
     """Raises InvalidCell for what is no pair of integers."""
     if not is_pair(cell):
         raise InvalidCell(cell)
+
+
+def check_lattice(lattice):
+    """Raises InvalidLattice for what is no lattice, or one that is too great to be passed."""
+    if not is_lattice(lattice) or max(lattice) > MOST_LATTICE:
+        raise InvalidLattice(lattice)
+
+
+def check_number(number, least, most):
+    """Raises InvalidNumber for what is no integer from the least one to the most one."""
+    if not is_int(number) or not least <= number <= most:
+        raise InvalidNumber(number)

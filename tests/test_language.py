@@ -1,19 +1,55 @@
 """Whether the files of the package keep to those rules of the language that are easily broken and easily seen."""
 
 import ast
+import builtins
 import pathlib
 import unittest
 
 FOLDER = pathlib.Path(__file__).resolve().parent.parent / "shovefloors"
 FILES = sorted(FOLDER.glob("*.py"))
 LIBRARY = {"heapq", "math", "itertools", "collections"}
-BARRED = (ast.Global, ast.AsyncFunctionDef, ast.Await, ast.Div)
+BARRED = (ast.Global, ast.AsyncFunctionDef, ast.Await, ast.Div, ast.GeneratorExp)
+BUILTINS = {
+    "len", "range", "enumerate", "zip", "min", "max", "sum", "abs", "sorted", "reversed", "int", "str", "bool", "list",
+    "tuple", "dict", "set", "isinstance", "ord", "repr", "any", "all", "divmod", "super", "property", "staticmethod",
+    "Exception", "ValueError", "TypeError", "KeyError", "IndexError", "LookupError", "ArithmeticError"}
+# Methods of builtin values that change what they are called of, or are not allowed where a class has `__eq__`.
+NO_METHODS = {"sort", "format", "format_map", "encode", "decode", "union", "intersection", "difference"}
 
 
 def told(path):
     """The text and the tree of a file."""
     text = path.read_bytes().decode("ascii")
     return text, ast.parse(text)
+
+
+def bound_names(tree):
+    """The names of imports and classes, and apart from them those of functions, parameters and variables."""
+    fixed, others = set(), set()
+    for node in ast.walk(tree):
+        if isinstance(node, ast.ImportFrom):
+            fixed |= {name.asname or name.name for name in node.names}
+        if isinstance(node, ast.ClassDef):
+            fixed.add(node.name)
+        if isinstance(node, ast.FunctionDef):
+            others.add(node.name)
+        if isinstance(node, ast.arg):
+            others.add(node.arg)
+        if isinstance(node, ast.Name) and not isinstance(node.ctx, ast.Load):
+            others.add(node.id)
+    return fixed, others
+
+
+def methods_of(tree):
+    """The names of all methods."""
+    return {node.name for kind in ast.walk(tree) if isinstance(kind, ast.ClassDef)
+            for node in kind.body if isinstance(node, ast.FunctionDef)}
+
+
+def imported_modules(tree):
+    """The modules of the package from which a file imports."""
+    return {node.module.split(".")[1] for node in ast.walk(tree)
+            if isinstance(node, ast.ImportFrom) and node.module.startswith("shovefloors.")}
 
 
 class TestLanguage(unittest.TestCase):
@@ -64,3 +100,56 @@ class TestLanguage(unittest.TestCase):
                     self.assertNotIn(chr(37), node.value, (path.name, node.lineno))
                 if isinstance(node, ast.ClassDef):
                     self.assertEqual(node.decorator_list, [], (path.name, node.lineno))
+
+    def test_names_are_bound_once_and_are_no_builtins(self):
+        for path in FILES:
+            fixed, others = bound_names(told(path)[1])
+            self.assertEqual(fixed & others, set(), path.name)
+            self.assertEqual((fixed | others) & set(dir(builtins)), set(), path.name)
+
+    def test_only_some_builtins_are_used(self):
+        for path in FILES:
+            tree = told(path)[1]
+            fixed, others = bound_names(tree)
+            used = {node.id for node in ast.walk(tree) if isinstance(node, ast.Name)}
+            self.assertLessEqual(used - fixed - others, BUILTINS, path.name)
+
+    def test_methods_that_are_not_called(self):
+        for path in FILES:
+            for node in ast.walk(told(path)[1]):
+                if isinstance(node, ast.Attribute):
+                    self.assertNotIn(node.attr, NO_METHODS, (path.name, node.lineno))
+
+    def test_no_two_underscores_but_for_methods(self):
+        for path in FILES:
+            tree = told(path)[1]
+            fixed, others = bound_names(tree)
+            for name in fixed | (others - methods_of(tree)):
+                self.assertFalse(name.startswith("__"), (path.name, name))
+
+    def test_nothing_imported_is_left_unused(self):
+        for path in FILES:
+            tree = told(path)[1]
+            imported = {name.name for node in ast.walk(tree) if isinstance(node, ast.ImportFrom)
+                        for name in node.names}
+            used = {node.id for node in ast.walk(tree) if isinstance(node, ast.Name)}
+            self.assertLessEqual(imported, used, path.name)
+
+    def test_imports_name_the_file_that_defines(self):
+        trees = {path.stem: told(path)[1] for path in FILES}
+        for name, tree in trees.items():
+            for node in ast.walk(tree):
+                if isinstance(node, ast.ImportFrom) and node.module.startswith("shovefloors."):
+                    source = trees[node.module.split(".")[1]]
+                    defined = {part.name for part in source.body if isinstance(part, (ast.FunctionDef, ast.ClassDef))}
+                    for part in source.body:
+                        if isinstance(part, ast.Assign):
+                            defined |= {target.id for target in part.targets}
+                    self.assertLessEqual({part.name for part in node.names}, defined, name)
+
+    def test_no_files_import_from_each_other(self):
+        ahead = {path.stem: imported_modules(told(path)[1]) for path in FILES}
+        while ahead:
+            free = [name for name, needed in ahead.items() if not needed & set(ahead)]
+            self.assertNotEqual(free, [], sorted(ahead))
+            ahead = {name: needed for name, needed in ahead.items() if name not in free}
