@@ -30,6 +30,16 @@ def is_lattice(value):
     return is_ints(value, 3) and 0 <= value[1] < value[0] and value[2] >= 1
 
 
+def is_passed_lattice(value):
+    """Whether a value is a lattice that is not too great to be passed."""
+    return is_lattice(value) and max(value) <= MOST_LATTICE
+
+
+def is_within(value, least, most):
+    """Whether a value is an integer from the least one to the most one."""
+    return is_int(value) and least <= value <= most
+
+
 def first_wrong(values, most):
     """The index of the first value that is no place, stood before or is beyond so many, None if there is none."""
     seen = set()
@@ -72,11 +82,11 @@ def check_cell(cell):
 
 def check_lattice(lattice):
     """Raises InvalidLattice for what is no lattice, or one that is too great to be passed."""
-    if not is_lattice(lattice) or max(lattice) > MOST_LATTICE:
+    if not is_passed_lattice(lattice):
         raise InvalidLattice(lattice)
 
 
 def check_number(number, least, most):
     """Raises InvalidNumber for what is no integer from the least one to the most one."""
-    if not is_int(number) or not least <= number <= most:
+    if not is_within(number, least, most):
         raise InvalidNumber(number)

@@ -39,6 +39,11 @@ def lattices_with(many):
     return [(wide, slip, many // wide) for wide in range(1, many + 1) if many % wide == 0 for slip in range(wide)]
 
 
+def lattices_of(shape):
+    """All lattices by which a shape fills, ascending."""
+    return tuple([lattice for lattice in lattices_with(len(shape)) if holds_each_once(lattice, shape.cells)])
+
+
 def led_level(one, two):
     """Two shoves with the same sums as two others, the last one of them staying in its line."""
     while two[1] != 0:
@@ -80,7 +85,7 @@ def is_filled(shape, lattice):
 def lattices(shape):
     """All lattices by which a shape fills, ascending."""
     check_shape(shape)
-    return tuple([lattice for lattice in lattices_with(len(shape)) if holds_each_once(lattice, shape.cells)])
+    return lattices_of(shape)
 
 
 def fills(shape):

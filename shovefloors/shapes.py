@@ -49,11 +49,8 @@ class Shape:
     @staticmethod
     def read(text):
         """The shape with this text."""
-        if not isinstance(text, str) or not 1 <= text.count("#") <= MOST_CELLS:
-            raise InvalidText(text)
-        shape = shape_from(marked_cells(text))
-        # All else that may be wrong in a text makes it unlike the one that the shape has.
-        if str(shape) != text:
+        shape = shape_with(text)
+        if shape is None:
             raise InvalidText(text)
         return shape
 
@@ -140,6 +137,17 @@ def shape_from(cells):
     # What is made of shapes, or read, may reach beyond the numbers that the class takes from its callers.
     shape = Shape(((0, 0),))
     shape._cells = from_zero(cells)
+    return shape
+
+
+def shape_with(text):
+    """The shape with this text, None for what is no text of one."""
+    if not isinstance(text, str) or not 1 <= text.count("#") <= MOST_CELLS:
+        return None
+    shape = shape_from(marked_cells(text))
+    # All else that may be wrong in a text makes it unlike the one that the shape has.
+    if str(shape) != text:
+        return None
     return shape
 
 

@@ -94,10 +94,15 @@ def lattice_by(text, cut):
     return lattice_from(shoves)
 
 
+def is_cut(text, value):
+    """Whether a value is a cut of a walk."""
+    # The numbers are looked at ahead of the cuts, since True is equal to 1.
+    return (is_ints(value, 2) or is_ints(value, 3)) and value in cuts_of(text)
+
+
 def check_cut(text, cut):
     """Raises InvalidCut for what is no cut of a walk."""
-    # The numbers are looked at ahead of the cuts, since True is equal to 1.
-    if not (is_ints(cut, 2) or is_ints(cut, 3)) or cut not in cuts_of(text):
+    if not is_cut(text, cut):
         raise InvalidCut(cut)
 
 

@@ -32,6 +32,8 @@ NO_LATTICES = NO_TUPLES + [
     (3, 3, 1), (3, 4, 1), (1, 1, 1), (1, -1, 1), (101, 0, 1), (1, 0, 101), (101, 100, 101), (100, 100, 1),
     (10 ** 79, 0, 1), (1, 0, 10 ** 79), (3, 10 ** 79, 1), (3, -10 ** 79, 1), (((((3,),),),), 1, 1)]
 
+NO_INTEGERS = NO_TUPLES[:3] + NO_TUPLES[5:] + ["1", b"1", (), (1,), (1, 1), [1], {1: 1}, {1}, (((1,),),)]
+
 FAR_NUMBERS = [0, 1, -1, 999, -1001, 10 ** 30, 10 ** 30 + 1, -10 ** 30, -10 ** 30 - 1, 10 ** 79, -10 ** 79]
 
 
@@ -63,9 +65,32 @@ class Case(unittest.TestCase):
             call(*args, **named)
         self.assertIs(caught.exception.__class__, error)
 
+    def assert_alone(self, values):
+        """Each of some objects is true, and equals itself, but none of the others nor a value of another class."""
+        others = [None, True, 0, "", (), [], {}, Plain(), Shape(((0, 0),)), object()]
+        for value in values:
+            self.assertIs(bool(value), True)
+            self.assertIs(value == value, True)
+            self.assertIs(value != value, False)
+            for other in others + [one for one in values if one is not value]:
+                self.assertIs(value == other, False)
+                self.assertIs(value != other, True)
+
     def assert_same(self, found, wanted):
         """Equal, and of the same kinds within: True does not stand for 1, nor a list for a tuple."""
         self.assertEqual(repr(found), repr(wanted))
+
+
+def text_of(cells):
+    """The text of a shape with some cells, made by looking at each place."""
+    wide, high = max([x for x, y in cells]) + 1, max([y for x, y in cells]) + 1
+    return "\n".join(["".join(["#" if (x, y) in cells else "." for x in range(wide)]) for y in range(high)])
+
+
+def told_anew(cells):
+    """Some cells, brought to where the least column and line are 0, ascending."""
+    left, top = min([x for x, y in cells]), min([y for x, y in cells])
+    return tuple(sorted([(x - left, y - top) for x, y in cells]))
 
 
 def shoves_of(lattice, far):
