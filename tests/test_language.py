@@ -127,6 +127,46 @@ class TestLanguage(unittest.TestCase):
             for name in fixed | (others - methods_of(tree)):
                 self.assertFalse(name.startswith("__"), (path.name, name))
 
+    def test_attributes_that_are_assigned_are_no_methods(self):
+        trees = [told(path)[1] for path in FILES]
+        methods = {name for tree in trees for name in methods_of(tree)}
+        for path, tree in zip(FILES, trees):
+            for node in ast.walk(tree):
+                if isinstance(node, ast.Attribute) and not isinstance(node.ctx, ast.Load):
+                    self.assertNotIn(node.attr, methods, (path.name, node.lineno))
+
+    def test_no_method_is_read_off_a_class(self):
+        trees = [told(path)[1] for path in FILES]
+        kinds = {node.name for tree in trees for node in ast.walk(tree) if isinstance(node, ast.ClassDef)}
+        for path, tree in zip(FILES, trees):
+            for node in ast.walk(tree):
+                if isinstance(node, ast.Attribute) and isinstance(node.value, ast.Name):
+                    self.assertNotIn(node.value.id, kinds, (path.name, node.lineno))
+
+    def test_what_stands_beside_is(self):
+        for path in FILES:
+            for node in ast.walk(told(path)[1]):
+                if isinstance(node, ast.Compare) and isinstance(node.ops[0], (ast.Is, ast.IsNot)):
+                    plain = isinstance(node.comparators[0], ast.Constant)
+                    self.assertTrue(plain or ast.unparse(node.left) == "self", (path.name, node.lineno))
+
+    def test_only_own_errors_are_caught(self):
+        own = {node.name for node in ast.walk(told(FOLDER / "errors.py")[1]) if isinstance(node, ast.ClassDef)}
+        for path in FILES:
+            for node in ast.walk(told(path)[1]):
+                if isinstance(node, ast.ExceptHandler):
+                    self.assertIn(ast.unparse(node.type), own, (path.name, node.lineno))
+
+    def test_nothing_is_done_but_assigned_where_all_must_be_as_it_was(self):
+        for path in FILES:
+            for node in ast.walk(told(path)[1]):
+                rows = node.finalbody if isinstance(node, ast.Try) else []
+                if isinstance(node, ast.FunctionDef) and node.name == "__exit__":
+                    rows = node.body
+                for row in rows:
+                    self.assertIsInstance(row, ast.Assign, (path.name, row.lineno))
+                    self.assertIsInstance(row.value, (ast.Name, ast.Attribute), (path.name, row.lineno))
+
     def test_nothing_imported_is_left_unused(self):
         for path in FILES:
             tree = told(path)[1]
