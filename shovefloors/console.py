@@ -7,9 +7,9 @@ from shovefloors.places import copy_at, least_hues, neighbours
 from shovefloors.walks import walk
 
 DIGITS = "0123456789"
-# How many integers stand behind each word; behind `repeat` there may be any number of pairs.
+# How many integers stand behind each word but `repeat`.
 LENGTHS = {
-    "put": 2, "take": 2, "repeat": 2, "undo": 0, "show": 0, "lattices": 0, "walk": 0, "copy": 5, "hues": 3, "beside": 3}
+    "put": 2, "take": 2, "undo": 0, "show": 0, "lattices": 0, "walk": 0, "copy": 5, "hues": 3, "beside": 3}
 OF_LATTICES = ("copy", "hues", "beside")
 
 
@@ -23,11 +23,9 @@ def is_number(text):
 
 def fits(word, many):
     """Whether so many integers can stand behind a word."""
-    if word not in LENGTHS:
-        return False
     if word == "repeat":
         return many > 0 and many % 2 == 0
-    return many == LENGTHS[word]
+    return word in LENGTHS and many == LENGTHS[word]
 
 
 def is_line(value):

@@ -38,9 +38,8 @@ class Desk:
 
     def put(self, cell):
         """Makes a cell one of the shape, too."""
-        check_cell(cell)
         cells = self.shape.cells
-        if cell in cells or not is_place(cell):
+        if not is_place(cell) or cell in cells:
             raise InvalidCell(cell)
         if len(cells) == MOST_CELLS:
             raise TooGreat(MOST_CELLS + 1)

@@ -282,6 +282,7 @@ NO_WISHES = [
     ("whole", "a", 1), ("whole", "a", ()), ("by", "a"), ("by", "a", (3, 0, 1), 2), ("many", "a"), ("many", "a", 1, 1),
     ("hues", "a"), ("hues", "a", (3, 0, 1)), ("hues", "a", 3), ("hues", "a", 3, (3, 0, 1)),
     ("hues", "a", (3, 0, 1), 3, 3), ("fill", "a"), ("Fills", "a"), ("FILLS", "a"), ("fills ", "a"), ("other", "a"),
+    ("other", "a", (3, 0, 1)), ("other", "a", 3), ("other", "a", (3, 0, 1), 3), ("Hues", "a", (3, 0, 1), 3),
     ("", "a"), (None, "a"), (0, "a"), (True, "a"), (b"fills", "a"), (("fills",), "a"), (["fills"], "a"), ({}, "a"),
     (Plain(), "a"), (Plain(), Plain()), ["fills", "a"], (("fills", "a"),), [("fills", "a")], ("put", "a", ANGLE),
     ("a", "fills"), ("turned", "a", (3, 0, 2, 2, 1))]
@@ -444,7 +445,7 @@ class TestDoAll(BookCase):
         wrong_deeds = [
             None, True, 0, "", "put", b"put", (), [], {}, {"put"}, Plain(), ANGLE, Shape, ("put",), ("put", "a"),
             ("put", "a", ANGLE, 1), ("drop",), ("drop", "a", "b"), ("wish",), ("wish", "fills", "a"), ("lift",),
-            ("lift", 0, 1), ["drop", "a"], ["put", "a", ANGLE], ("other", "a"), ("Put", "a", ANGLE), ("undo",),
+            ("lift", 0, 1), ["drop", "a"], ["put", "a", ANGLE], ("other", "a"), ("other",), ("",), ("Put", "a", ANGLE), ("undo",),
             ("undo", 1), ("do_all", ()), (None, "a"), (0, "a"), (True, "a"), (["drop"], "a"), ({}, "a"), (Plain(), "a"),
             (("drop", "a"),), ("drop" "a",), (b"drop", "a"), ("", "a"), ("fills", "a")]
         book = with_angle()

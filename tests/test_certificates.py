@@ -23,6 +23,9 @@ ROW = Shape(tuple([(x, 0) for x in range(24)]))
 FAR = Shape(((-1000, -1000), (1000, 999)))
 COMB = Shape(tuple([(x, y) for y, x in enumerate([-1000, 848, -920, 828] + [108] * 20)]))
 COMB_LATTICE = (1, 0, 24)
+# Its copies lie beside those that are 1, 880, 1260, 1748 and 1768 columns away: each k up to 23 has a multiple among
+# these, but 24 has none.
+LESS_COMB = Shape(tuple([(x, y) for y, x in enumerate([-1000, 768, -980, 280] + [-600] * 20)]))
 SHAPES = shapes_within(3, 2) + pieces_up_to(5) + [SPLIT, ROW, FAR, Shape.read("#..#.\n....#"), Shape.read("##.##")]
 WHOLE = [shape for shape in SHAPES if shape.is_whole]
 WRONG = Plain()
@@ -131,6 +134,12 @@ class TestPlaces(CertificateCase):
                 found = self.assert_accepted(certify_hues(shape, lattice), claim)
                 self.assert_same(found, neighbours(shape, lattice))
         self.assertEqual(certify_hues(ONE, (1, 0, 1))[0], ("hues", "#", (1, 0, 1), (2, 1, 1)))
+
+    def test_as_many_hues_as_can_be_told(self):
+        self.assertEqual(least_hues(LESS_COMB, COMB_LATTICE), 24)
+        fine = [(24, i, j) for i in range(24) for j in range(24) if are_fine(LESS_COMB, COMB_LATTICE, (24, i, j))]
+        claim = ("hues", str(LESS_COMB), COMB_LATTICE, fine[0])
+        self.assert_accepted(certify_hues(LESS_COMB, COMB_LATTICE), claim)
 
     def test_more_hues_than_can_be_told(self):
         self.assert_number(TooGreat, 25, certify_hues, COMB, COMB_LATTICE)
